@@ -1,0 +1,71 @@
+"""Chains: how a pick grows by a pair, such that whoever stands in it goes on standing in it."""
+
+from pairpicks.checks import ascending, is_order
+from pairpicks.errors import BadOrder, NoEnd
+from pairpicks.picks import unused
+from pairpicks.plans import LAST
+
+
+def counting(plan, reached, owners, seen):
+    """Return the pair of the plan that counts; None if the plan is passed over."""
+    pairs = [pair for pair in plan if pair[0] in reached]
+    ending = [pair for pair in pairs if pair[1] not in owners]
+    unseen = [pair for pair in pairs if pair[1] not in seen]
+    first = ending + unseen
+    return first[0] if first else None
+
+
+def chain(book, pick, order):
+    """Return the list of the triples (number, person, desk) of the pairs that counted."""
+    if not is_order(order, unused(book, pick)):
+        raise BadOrder("an order has each number of the unused plans once")
+    owners = {desk: person for person, desk in pick.values()}
+    standing = list(owners.values())
+    reached = {person: True for person in range(LAST + 1) if person not in standing}
+    seen = {}
+    triples = []
+    for number in order:
+        pair = counting(book[number], reached, owners, seen)
+        if pair is None:
+            continue
+        person, desk = pair
+        triples.append((number, person, desk))
+        if desk not in owners:
+            break
+        seen[desk] = True
+        reached[owners[desk]] = True
+    return triples
+
+
+def has_end(pick, triples):
+    """Tell whether the chain of these triples ends."""
+    taken = [desk for person, desk in pick.values()]
+    return len(triples) > 0 and triples[-1][2] not in taken
+
+
+def ends(book, pick, order):
+    """Tell whether the chain ends."""
+    return has_end(pick, chain(book, pick, order))
+
+
+def path(book, pick, order):
+    """Return the triples of the chain that lead to its end."""
+    triples = chain(book, pick, order)
+    if not has_end(pick, triples):
+        raise NoEnd("the chain does not end")
+    desk_of = {person: desk for person, desk in pick.values()}
+    seen_by = {triple[2]: triple for triple in triples}
+    way = [triples[-1]]
+    while way[0][1] in desk_of:
+        way.insert(0, seen_by[desk_of[way[0][1]]])
+    return way
+
+
+def grown(book, pick, order):
+    """Return the pick with one pair more that comes of the path."""
+    way = path(book, pick, order)
+    moving = [person for number, person, desk in way]
+    more = {number: pick[number] for number in pick if pick[number][0] not in moving}
+    for number, person, desk in way:
+        more[number] = (person, desk)
+    return ascending(more)
