@@ -18,9 +18,7 @@ def is_lone(thing):
     one = thing[0]
     others = [plan for plan in thing if plan != one]
     half = len(one) - 1
-    if half < 1 or len(thing) != 2 * half or len(others) != half:
-        return False
-    if others.count(others[0]) != half:
+    if len(thing) != 2 * half or len(others) != half or others.count(others[0]) != half:
         return False
     return are_ring(one, others[0])
 

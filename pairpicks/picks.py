@@ -62,9 +62,7 @@ def with_pair(book, pick, number, pair):
     for used in sorted(pick):
         if clashing([pick[used]], pair):
             raise Clash(used)
-    more = ascending(pick)
-    more[number] = pair
-    return ascending(more)
+    return ascending({**pick, number: pair})
 
 
 def without(book, pick, numbers):

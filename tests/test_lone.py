@@ -169,6 +169,11 @@ class Many(unittest.TestCase):
         check_calls(self, lones, names, ((0, 2, 7), (1, 3, 5)), [both(bad, BadRow), desks])
         check_calls(self, lones, names, ((0, 7), (1, 3)), [both(bad, BadRow), both(bad + [(0, 1, 2)], BadRow)])
 
+    def test_rows_of_fewer_than_two(self):
+        for row in ((), (0,), (7,)):
+            self.assertRaises(BadRow, lones, row, row)
+            self.assertRaises(BadRow, lone_of, row, row, ())
+
     def test_lones_of_more_than_three(self):
         for many in range(4, 9):
             with self.assertRaises(TooMany) as caught:

@@ -147,6 +147,8 @@ class Rings(unittest.TestCase):
     def test_ring_of_calls(self):
         bad = both(NOT_ROWS, BadRow)
         check_calls(self, ring_of, ["persons", "desks"], ((3, 1), (7, 0)), [bad, bad + both([(0, 1, 2)], BadRow)])
+        for row in ((), (0,), (7,), tuple(range(9)), (0, 0), (0, 8), (False, True)):
+            self.assertRaises(BadRow, ring_of, row, row)
         for many in range(2, 9):
             for other in range(2, 9):
                 if many != other:
