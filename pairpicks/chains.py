@@ -7,16 +7,14 @@ from pairpicks.plans import LAST
 
 
 def counting(plan, reached, owners, seen):
-    """Return the pair of the plan that counts; None if the plan is passed over."""
-    pairs = [pair for pair in plan if pair[0] in reached]
+    """Return the list of the pairs of the plan that count, if all of them count at once."""
+    pairs = [pair for pair in plan if pair[0] in reached and pair[1] not in seen]
     ending = [pair for pair in pairs if pair[1] not in owners]
-    unseen = [pair for pair in pairs if pair[1] not in seen]
-    first = ending + unseen
-    return first[0] if first else None
+    return ending[:1] if ending else pairs
 
 
-def chain(book, pick, order):
-    """Return the list of the triples (number, person, desk) of the pairs that counted."""
+def walked(book, pick, order, most):
+    """Return the triples of the chain in which at most so many pairs of one plan count."""
     if not is_order(order, unused(book, pick)):
         raise BadOrder("an order has each number of the unused plans once")
     owners = {desk: person for person, desk in pick.values()}
@@ -25,15 +23,13 @@ def chain(book, pick, order):
     seen = {}
     triples = []
     for number in order:
-        pair = counting(book[number], reached, owners, seen)
-        if pair is None:
-            continue
-        person, desk = pair
-        triples.append((number, person, desk))
-        if desk not in owners:
-            break
-        seen[desk] = True
-        reached[owners[desk]] = True
+        # A plan's pairs count at once: none of them is reached by another one.
+        for person, desk in counting(book[number], reached, owners, seen)[:most]:
+            triples.append((number, person, desk))
+            if desk not in owners:
+                return triples
+            seen[desk] = True
+            reached[owners[desk]] = True
     return triples
 
 
@@ -43,14 +39,8 @@ def has_end(pick, triples):
     return len(triples) > 0 and triples[-1][2] not in taken
 
 
-def ends(book, pick, order):
-    """Tell whether the chain ends."""
-    return has_end(pick, chain(book, pick, order))
-
-
-def path(book, pick, order):
-    """Return the triples of the chain that lead to its end."""
-    triples = chain(book, pick, order)
+def way_to_end(pick, triples):
+    """Return those of the chain's triples that lead to its end."""
     if not has_end(pick, triples):
         raise NoEnd("the chain does not end")
     desk_of = {person: desk for person, desk in pick.values()}
@@ -61,11 +51,30 @@ def path(book, pick, order):
     return way
 
 
-def grown(book, pick, order):
-    """Return the pick with one pair more that comes of the path."""
-    way = path(book, pick, order)
+def moved_along(pick, way):
+    """Return the pick in which the persons of the way have the pairs that it tells."""
     moving = [person for number, person, desk in way]
     more = {number: pick[number] for number in pick if pick[number][0] not in moving}
     for number, person, desk in way:
         more[number] = (person, desk)
     return ascending(more)
+
+
+def chain(book, pick, order):
+    """Return the list of the triples (number, person, desk) of the pairs that counted."""
+    return walked(book, pick, order, 1)
+
+
+def ends(book, pick, order):
+    """Tell whether the chain ends."""
+    return has_end(pick, chain(book, pick, order))
+
+
+def path(book, pick, order):
+    """Return the triples of the chain that lead to its end."""
+    return way_to_end(pick, chain(book, pick, order))
+
+
+def grown(book, pick, order):
+    """Return the pick with one pair more that comes of the path."""
+    return moved_along(pick, path(book, pick, order))

@@ -1,9 +1,11 @@
 """What the tests share: odd values, ways to check a function's calls, and picks counted one by one."""
 
 import copy
+import itertools
 import random
 
 from pairpicks.errors import BadBook, Clash, PickError
+from pairpicks.picks import is_pick
 
 
 def nested(kind):
@@ -45,6 +47,15 @@ NOT_BOOKS = ODD + [
     ((), None), {0: ()}, "book", (((0, 1),), ((1, 0), (0, 2))),
 ] + [(plan,) for plan in NOT_PLANS] + [((), plan) for plan in NOT_PLANS]
 
+NOT_SIZES = ODD + [
+    (), {}, 0, 3, 16, [1, 2], [3], (9,), (-1,), (1, 9), (-1, 8), (0,) * 17, (3,) * 17, (1, 2, True), (False,),
+    (0, False), (True,), (1, None), ("1",), (1, (2,)), ([1],), (999999999,), (-999999999,), {0: 1}, "12",
+    (1, BadBook("text")),
+]
+# A goal or a number that is at least 1, but no more than 9 or 8.
+NOT_GOALS = NOT_NUMBERS + [0, 10, -1, 999999999, -999999999]
+NOT_RISE_NUMBERS = NOT_NUMBERS + [0, 9, 10, -1, 999999999, -999999999]
+
 
 def not_ascending(many):
     """Values that are no ascending tuples of unlike numbers from 0 to many - 1."""
@@ -82,6 +93,37 @@ def not_picks_of(book):
         {0: (0, 0), many: (1, 1)}, {0: (0, 0), "1": (1, 1)}, {0: nested("tuple")}, {0: nested("dict")},
         {0: (0, nested("list"))}, {0: BadBook("text")},
     ]
+
+
+def variants(value):
+    """Values like this one, but for one part of it, at any depth, that is of another kind or no number in question."""
+    found = [thing for thing in ODD if thing.__class__ is not value.__class__ or thing != value]
+    if isinstance(value, bool) or value is None:
+        return found
+    if isinstance(value, int):
+        return found + [-1, 99, str(value), (value,), [value]] + ([bool(value)] if value in (0, 1) else [])
+    if isinstance(value, str):
+        return found + [value + " ", value.upper(), value[1:]]
+    if isinstance(value, tuple):
+        found.append(list(value))
+        for at, item in enumerate(value):
+            found += [value[:at] + (other,) + value[at + 1:] for other in variants(item)]
+    if isinstance(value, dict):
+        found += [list(value.items()), tuple(value.items())]
+        for key in value:
+            found += [{**value, key: other} for other in variants(value[key])]
+            found += [{(other if one == key else one): value[one] for one in value} for other in variants(key)
+                      if is_key(other)]
+    return found
+
+
+def is_key(value):
+    """Whether a dict can have this key."""
+    try:
+        hash(value)
+    except TypeError:
+        return False
+    return True
 
 
 def check_calls(test, function, names, good, bad):
@@ -128,6 +170,23 @@ def spoil(value):
         value.append("spoiled")
 
 
+def check_grown(test, book, pick, triples, way, more):
+    """Check the way that leads to the end of a chain of these triples, and the pick that grows by it."""
+    test.assertEqual(way[-1], triples[-1])
+    test.assertEqual([triple for triple in triples if triple in way], way)
+    desk_of = dict(pick.values())
+    test.assertNotIn(way[0][1], desk_of)
+    for ahead, behind in zip(way, way[1:]):
+        test.assertEqual(ahead[2], desk_of[behind[1]])
+    test.assertIs(is_pick(book, more), True)
+    test.assertEqual((list(more), len(more)), (sorted(more), len(pick) + 1))
+    for at in (0, 1):
+        test.assertLessEqual({pair[at] for pair in pick.values()}, {pair[at] for pair in more.values()})
+    moving = [triple[1] for triple in way]
+    due = {number: pair for number, pair in pick.items() if pair[0] not in moving}
+    test.assertEqual(more, {**due, **{number: (person, desk) for number, person, desk in way}})
+
+
 def both(values, error):
     """The pairs of each value and this error."""
     return [(value, error) for value in values]
@@ -170,6 +229,13 @@ def is_lone_by_hand(book):
     return len(round_trip) == k and person == round_trip[0]
 
 
+def all_plans(among, least=0):
+    """All plans of least pairs or more with persons and desks below among."""
+    pairs = list(itertools.product(range(among), repeat=2))
+    rows = [row for size in range(least, among + 1) for row in itertools.combinations(pairs, size)]
+    return [row for row in rows if len({p for p, d in row}) == len({d for p, d in row}) == len(row)]
+
+
 class Dice:
     """Plans, books and orders of all kinds, the same ones in each run."""
 
@@ -190,6 +256,23 @@ class Dice:
             else:
                 plans.append(self.plan(self.random.randint(least, most), among))
         return tuple(plans)
+
+    def book_of(self, sizes, among=8):
+        """A book of plans with these sizes."""
+        return tuple([self.plan(size, max(among, size)) for size in sizes])
+
+    def small_book(self, most_plans=8, most_pairs=28):
+        """A book of at most so many plans with at most so many pairs in all."""
+        while True:
+            among = self.number(1, 8)
+            book = self.book(self.number(1, most_plans), most=min(among, 6), among=among)
+            if sum(len(plan) for plan in book) <= most_pairs:
+                return book
+
+    def members(self, book):
+        """A triple (numbers, persons, desks) as barred takes them."""
+        rows = [self.part(range(many), self.number(0, min(many, 3))) for many in (len(book), 8, 8)]
+        return tuple([tuple(sorted(row)) for row in rows])
 
     def pick(self, book, most=8):
         """A pick of the book with at most so many pairs, its keys in any sequence."""

@@ -5,9 +5,8 @@ import unittest
 
 from pairpicks.chains import chain, ends, grown, path
 from pairpicks.errors import BadBook, BadOrder, BadPick, NoEnd
-from pairpicks.picks import is_pick, openings, plan_of, unused
-from pairpicks.plans import desks_of, persons_of
-from tests.helper import NOT_BOOKS, Dice, both, check_calls, not_orders, not_picks_of
+from pairpicks.picks import openings, unused
+from tests.helper import NOT_BOOKS, Dice, both, check_calls, check_grown, not_orders, not_picks_of
 
 HAND = (((0, 0), (1, 1)), ((0, 0), (1, 1)), ((0, 1), (1, 0)))
 NAMES = ["book", "pick", "order"]
@@ -86,6 +85,7 @@ class Facts(unittest.TestCase):
             among = dice.number(1, 8)
             book = dice.book(many, most=among, among=among)
             pick = dice.pick(book)
+            before = dict(pick)
             order = dice.order(unused(book, pick))
             triples, end = chain_by_hand(book, pick, order)
             self.assertEqual(chain(book, pick, order), triples)
@@ -96,30 +96,12 @@ class Facts(unittest.TestCase):
             if openings(book, pick):
                 self.assertIs(end, True)
             if end:
-                self.check_grown(book, pick, order, triples)
+                check_grown(self, book, pick, triples, path(book, pick, order), grown(book, pick, order))
             else:
                 self.assertRaises(NoEnd, path, book, pick, order)
                 self.assertRaises(NoEnd, grown, book, pick, order)
+            self.assertEqual(pick, before)
         self.assertEqual(met, {(True, 1), (True, 2), (True, 3), (False, 0), (False, 1), (False, 2), (False, 3)})
-
-    def check_grown(self, book, pick, order, triples):
-        before = {number: pick[number] for number in pick}
-        way = path(book, pick, order)
-        self.assertEqual(way[-1], triples[-1])
-        self.assertEqual([triple for triple in triples if triple in way], way)
-        desk_of = dict(pick.values())
-        self.assertNotIn(way[0][1], desk_of)
-        for ahead, behind in zip(way, way[1:]):
-            self.assertEqual(ahead[2], desk_of[behind[1]])
-        more = grown(book, pick, order)
-        self.assertEqual(pick, before)
-        self.assertIs(is_pick(book, more), True)
-        self.assertEqual((list(more), len(more)), (sorted(more), len(pick) + 1))
-        self.assertLessEqual(set(persons_of(plan_of(book, pick))), set(persons_of(plan_of(book, more))))
-        self.assertLessEqual(set(desks_of(plan_of(book, pick))), set(desks_of(plan_of(book, more))))
-        moving = [triple[1] for triple in way]
-        due = {number: pair for number, pair in pick.items() if pair[0] not in moving}
-        self.assertEqual(more, {**due, **{number: (person, desk) for number, person, desk in way}})
 
     def test_guarantee_b(self):
         dice = Dice(51)

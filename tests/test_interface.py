@@ -9,10 +9,11 @@ import unittest
 ROOT = pathlib.Path(__file__).resolve().parent.parent / "pairpicks"
 
 # The modules that are here, in their order, with their functions and parameters.
-# Behind errors stands checks, which is the package's own.
+# Behind errors stand checks and matching, which are the package's own.
 MODULES = {
     "errors": {},
     "checks": {},
+    "matching": {},
     "plans": {
         "is_plan": "thing", "is_book": "thing", "persons_of": "plan", "desks_of": "plan", "turned": "plan",
         "met": "one other",
@@ -45,6 +46,29 @@ MODULES = {
     "twofold": {
         "twofold": "one other many more", "twofold_most": "one other many more", "twofold_pick": "one other many more",
     },
+    "trails": {"is_trailing": "book", "trail_line": "book", "trail_pick": "book"},
+    "fewer": {
+        "wide_chain": "book pick order", "wide_ends": "book pick order", "wide_path": "book pick order",
+        "wide_grown": "book pick order", "wide_grow": "book pick", "wide_sure": "sizes", "plans_for": "pairs fewer",
+    },
+    "rising": {
+        "rises": "sizes number", "short_size": "sizes number", "rises_to": "sizes", "deficit": "sizes number",
+        "rising_pick": "book number",
+    },
+    "sides": {
+        "side_pick": "book side", "is_side_pick": "book side thing", "short_lot": "book side",
+        "is_short_lot": "book side thing", "side_most": "book side",
+    },
+    "bars": {"is_within": "book one other", "bar": "book one other", "is_bar": "book thing"},
+    "least": {"failing_book": "sizes number", "failing_bar": "sizes number"},
+    "greatest": {"greatest": "book", "greatest_pick": "book", "barred": "book numbers persons desks"},
+    "guards": {"is_guard": "book thing", "unguarded": "book numbers persons desks", "least_guard": "book"},
+    "trees": {"tree": "book goal", "is_tree": "book goal thing"},
+    "unions": {
+        "union_plan": "book numbers", "union_size": "book numbers", "is_cover": "book numbers thing",
+        "cover": "book numbers", "lack": "book", "lacking": "book",
+    },
+    "must": {"always": "book", "never": "book", "spare": "book"},
 }
 
 
