@@ -52,15 +52,17 @@ def need_names(names):
         raise BadOrder("names have each number from 0 to 7 once")
 
 
+def renamed_plan(plan, persons, desks):
+    """Return the plan in which each pair (p, d) is (persons[p], desks[d])."""
+    return tuple(sorted([(persons[person], desks[desk]) for person, desk in plan]))
+
+
 def renamed(book, persons, desks):
     """Return the book in which each pair (p, d) is (persons[p], desks[d])."""
     need_book(book)
     need_names(persons)
     need_names(desks)
-    plans = []
-    for plan in book:
-        plans.append(tuple(sorted([(persons[person], desks[desk]) for person, desk in plan])))
-    return tuple(plans)
+    return tuple([renamed_plan(plan, persons, desks) for plan in book])
 
 
 def turned_book(book):

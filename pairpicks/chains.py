@@ -5,6 +5,10 @@ from pairpicks.errors import BadOrder, NoEnd
 from pairpicks.picks import unused
 from pairpicks.plans import LAST
 
+# Of one plan at most so many pairs count at once: in a chain, and in a wide chain.
+NARROW = 1
+WIDE = 8
+
 
 def counting(plan, reached, owners, seen):
     """Return the list of the pairs of the plan that count, if all of them count at once."""
@@ -17,6 +21,11 @@ def walked(book, pick, order, most):
     """Return the triples of the chain in which at most so many pairs of one plan count."""
     if not is_order(order, unused(book, pick)):
         raise BadOrder("an order has each number of the unused plans once")
+    return walk(book, pick, order, most)
+
+
+def walk(plans, pick, order, most):
+    """Return the triples of the chain through the plans in this order, with the numbers or labels that they have."""
     owners = {desk: person for person, desk in pick.values()}
     standing = list(owners.values())
     reached = {person: True for person in range(LAST + 1) if person not in standing}
@@ -24,7 +33,7 @@ def walked(book, pick, order, most):
     triples = []
     for number in order:
         # A plan's pairs count at once: none of them is reached by another one.
-        for person, desk in counting(book[number], reached, owners, seen)[:most]:
+        for person, desk in counting(plans[number], reached, owners, seen)[:most]:
             triples.append((number, person, desk))
             if desk not in owners:
                 return triples
@@ -62,7 +71,7 @@ def moved_along(pick, way):
 
 def chain(book, pick, order):
     """Return the list of the triples (number, person, desk) of the pairs that counted."""
-    return walked(book, pick, order, 1)
+    return walked(book, pick, order, NARROW)
 
 
 def ends(book, pick, order):

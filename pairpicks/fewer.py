@@ -1,6 +1,6 @@
 """Wide chains, in which all pairs of a plan count at once, and what they make sure of."""
 
-from pairpicks.chains import has_end, moved_along, walked, way_to_end
+from pairpicks.chains import WIDE, has_end, moved_along, walked, way_to_end
 from pairpicks.checks import ascending, is_from
 from pairpicks.errors import BadNumber, BadSizes
 from pairpicks.picks import need_pick, unused
@@ -9,7 +9,7 @@ from pairpicks.plans import LAST, MOST_PLANS
 
 def wide_chain(book, pick, order):
     """Return the list of the triples (number, person, desk) of the pairs that counted."""
-    return walked(book, pick, order, LAST + 1)
+    return walked(book, pick, order, WIDE)
 
 
 def wide_ends(book, pick, order):

@@ -73,6 +73,11 @@ def without(book, pick, numbers):
     return {number: pick[number] for number in sorted(pick) if number not in numbers}
 
 
+def bits_of(pair):
+    """Return the number in which one bit stands for the person of the pair, and one for its desk."""
+    return (1 << pair[0]) | (1 << (LAST + 1 + pair[1]))
+
+
 def pick_of(book, many):
     """Return a pick of the book with so many pairs; None if there is none."""
     return search(book, 0, many, 0, {})
@@ -81,19 +86,19 @@ def pick_of(book, many):
 def search(book, number, many, taken, dead):
     """Return a pick of so many pairs out of the plans from the number on; None if there is none.
 
-    In taken one bit stands for each person, and one for each desk, that no pair may have.
+    In taken are the bits of the persons and desks that no pair may have.
     """
     if many == 0:
         return {}
     # Many ways lead to the same persons and desks: dead spares going on twice from there.
     if len(book) - number < many or (number, taken) in dead:
         return None
-    for person, desk in book[number]:
-        bits = (1 << person) | (1 << (LAST + 1 + desk))
+    for pair in book[number]:
+        bits = bits_of(pair)
         if taken & bits == 0:
             rest = search(book, number + 1, many - 1, taken | bits, dead)
             if rest is not None:
-                return {number: (person, desk), **rest}
+                return {number: pair, **rest}
     rest = search(book, number + 1, many, taken, dead)
     if rest is None:
         dead[(number, taken)] = True

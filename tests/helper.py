@@ -5,6 +5,7 @@ import itertools
 import random
 
 from pairpicks.errors import BadBook, Clash, PickError
+from pairpicks.office import Office
 from pairpicks.picks import is_pick
 
 
@@ -25,6 +26,7 @@ def nested(kind):
 ODD = [
     None, True, False, "", "0", "plan", [], [0], [[]], [(0, 0)], {"a": 1}, {None: None}, (None,), ("0",), ((0,),),
     ((True,),), {0: 0}, {True: (0, 0)}, BadBook("text"), Clash(3), (BadBook("text"),), (1, (2, [3])),
+    Office(), (Office(), 0), [Office()], {0: Office()},
     nested("list"), nested("tuple"), nested("dict"),
 ]
 NOT_NUMBERS = ODD + [(), {}, (0,), (1, 2), [1, 2]]
@@ -55,6 +57,76 @@ NOT_SIZES = ODD + [
 # A goal or a number that is at least 1, but no more than 9 or 8.
 NOT_GOALS = NOT_NUMBERS + [0, 10, -1, 999999999, -999999999]
 NOT_RISE_NUMBERS = NOT_NUMBERS + [0, 9, 10, -1, 999999999, -999999999]
+
+# All dials that there are, and values that are none.
+ALL_DIALS = [(size,) for size in range(2, 9)] + [(2, 2), (2, 3), (3, 2), (2, 4), (4, 2), (2, 2, 2)]
+NOT_DIALS = ODD + [
+    (), {}, 0, 2, [2], [2, 2], (1,), (0,), (-2,), (9,), (1, 2), (2, 1), (1, 1, 2), (2, True), (True,), (False, 2),
+    (3, 3), (2, 5), (5, 2), (2, 2, 3), (8, 8), (4, 4), (2, 2, 2, 2), (2, 2, 2, 1), (-2, -2), (2, None), ("2",), ((2,),),
+    (2, (2,)), "2", {2: 2}, (999999999,), (2, 999999999),
+]
+
+# Values that are no tables; among the odd ones is the table of one sign.
+NOT_TABLES = [thing for thing in ODD if thing.__class__ is not tuple or thing != ((0,),)] + [
+    (), {}, 0, 1, (0, 1), [(0, 1)], [[0, 1]], ([0, 1],), ((0, 1), [1, 0]), ((),), ((), ()), ((0, 1), (1,)),
+    ((0,), (1, 0)), ((0, 0),), ((0, 1), (1, 1)), ((0, 8),), ((-1, 0),), ((0, 1), (2, 8)), ((0, True),), ((False, 1),),
+    ((0, 1), (True, 0)), ((0, None),), (("0", "1"),), ("01",), ((0, (1,)),), {0: (0, 1)}, ((0, 1), None), (((0, 1),),),
+    ((0,),) * 17, (tuple(range(9)),), ((0, 1, 2, 3, 4, 5, 6, 7, 0),), ((999999999,),), ((0, 1), {0: 0, 1: 1}),
+    ((0, BadBook("text")),),
+]
+
+# Values that are no ascending tuples of unlike pairs, and no webs.
+NOT_LOTS = ODD + [
+    {}, 0, 1, (0, 1), [(0, 1)], [], ([0, 1],), ((0, 1), [1, 2]), ((0, 1, 2),), ((0,),), ((1, 0), (0, 1)),
+    ((0, 1), (0, 1)), ((0, 1), (0, 0)), ((0, 8),), ((8, 0),), ((-1, 0),), ((True, 0),), ((0, False),),
+    ((0, 0), (0, True)), ((0, 0), (True, 0)), (("0", "1"),), ((0, None),), {(0, 1): 1}, ((),), (((0, 1),),),
+    ((0, 1), None), ((0, (1,)),), ((0, 999999999),), ((0, BadBook("text")),), "01", ((0, 0), nested("tuple")),
+]
+NOT_WEBS = NOT_LOTS + [()]
+
+
+def not_dicts_over(good):
+    """Values like this dict over the pairs of a web, but with a pair too many, too few, or another one."""
+    first, *others = good
+    rest = {pair: good[pair] for pair in others}
+    away = next((7, desk) for desk in range(8) if (7, desk) not in good)
+    found = ODD + [
+        [], (), 0, rest, {**good, away: good[first]}, {**rest, away: good[first]}, list(good.items()),
+        tuple(good.items()), {**good, None: good[first]}, {**rest, "0-0": good[first]}, {**rest, first[0]: good[first]},
+        {**rest, first + (0,): good[first]}, {**rest, nested("tuple"): good[first]}, {**good, first: None},
+        {**good, first: True}, {**good, first: False}, {**good, first: "0"}, {**good, first: [0]}, {**good, first: {}},
+        {**good, first: nested("list")}, {**good, first: BadBook("text")}, {**good, first: ((0,),)},
+        {**good, first: (None,)},
+    ]
+    # A key with a bool in the place of 0 or 1.
+    for pair in good:
+        for at in (0, 1):
+            if pair[at] in (0, 1):
+                odd = pair[:at] + (bool(pair[at]),) + pair[at + 1:]
+                found.append({(odd if each == pair else each): good[each] for each in good})
+    return found + ([{}] if good else [])
+
+
+def not_places(dials):
+    """Values that are no places of these dials."""
+    zero = (0,) * len(dials)
+    found = ODD + [
+        (), {}, 0, list(zero), [list(zero)], zero + (0,), zero[1:], (None,) + zero[1:], ("0",) + zero[1:],
+        "0" * len(dials), (False,) + zero[1:], zero[:-1] + (False,), zero[:-1] + (True,), {0: 0}, (zero,),
+        (-1,) + zero[1:], (999999999,) + zero[1:], zero[:-1] + (BadBook("text"),), zero[:-1] + (nested("tuple"),),
+    ]
+    for at, size in enumerate(dials):
+        found += [zero[:at] + (part,) + zero[at + 1:] for part in (size, size + 1, -1, (0,), [0])]
+    return found
+
+
+def not_moves(dials):
+    """Values that are no tuples of one to sixteen moves of these dials."""
+    zero = (0,) * len(dials)
+    # The tuple of the place of one dial is among the odd values.
+    found = [thing for thing in ODD if thing.__class__ is not tuple or thing != (zero,)]
+    found += [(), {}, 0, zero, [zero], [list(zero)], (zero,) * 17, {0: zero}, {zero: 0}, (zero, None), (zero, [zero])]
+    return found + [(thing,) for thing in not_places(dials)] + [(zero, thing, zero) for thing in not_places(dials)]
 
 
 def not_ascending(many):
@@ -293,6 +365,25 @@ class Dice:
     def part(self, numbers, size):
         """So many of these numbers, in any sequence."""
         return tuple(self.random.sample(list(numbers), size))
+
+    def moves(self, dials, many):
+        """So many moves of the dials, some of them several times, perhaps of a few ones only."""
+        some = [tuple([self.number(0, size - 1) for size in dials]) for _ in range(self.number(1, 6))]
+        return tuple([self.random.choice(some) for _ in range(many)])
+
+    def table(self, many, size, signs=8):
+        """A table of so many rows of so many signs below signs, some of them several times."""
+        rows = [self.part(range(signs), size) for _ in range(self.number(1, max(many, 1)))]
+        return tuple([self.random.choice(rows) for _ in range(many)])
+
+    def web(self, many, among=8):
+        """A web of so many pairs of persons and desks below among."""
+        return tuple(sorted(self.part([(p, d) for p in range(among) for d in range(among)], many)))
+
+    def web_up_to(self, most):
+        """A web of at most so many pairs, dense or thin."""
+        among = self.number(1, 8)
+        return self.web(self.number(1, min(most, among * among)), among)
 
     def number(self, least, most):
         """A number from least to most."""

@@ -69,6 +69,48 @@ MODULES = {
         "cover": "book numbers", "lack": "book", "lacking": "book",
     },
     "must": {"always": "book", "never": "book", "spare": "book"},
+    "many": {"picks": "book size", "picks_many": "book size", "tally": "book"},
+    "steps": {
+        "near_picks": "book pick", "way_to": "book one other", "lot_of": "book pick", "is_closed": "book thing",
+    },
+    "moves": {
+        "places": "dials", "moved": "dials place move", "turns_of": "dials move", "is_one_ring": "dials",
+        "total_of": "dials moves", "move_plan": "dials move", "move_book": "dials moves",
+    },
+    "closings": {
+        "is_closing": "dials moves thing", "closing": "dials moves", "closings_many": "dials moves",
+        "closing_by": "dials moves pick", "pick_by": "dials moves closing",
+    },
+    "barring": {
+        "is_free": "dials thing", "free_most": "dials", "free_moves": "dials", "always_closing": "dials",
+        "never_closing": "dials", "is_barring": "dials thing", "barring": "dials one other",
+    },
+    "tables": {
+        "is_table": "thing", "table_book": "table", "book_table": "book", "moves_table": "dials moves",
+        "is_cut": "table thing", "cut": "table", "cut_by": "table pick",
+    },
+    "partings": {
+        "is_parting": "table thing", "parting": "table", "mate": "table parting", "parting_by": "dials cut",
+    },
+    "office": {"Office": ""},
+    "texts": {"book_text": "book", "read_book": "text", "office_text": "office", "read_office": "text"},
+    "webs": {
+        "is_web": "thing", "web_of": "book", "load": "web", "are_hues": "web thing", "hues": "web",
+        "parted": "web hues",
+        "is_settled": "web hues lot thing", "settled": "web hues lot", "all_settled": "web hues lot",
+    },
+    "hours": {
+        "are_menus": "web thing", "is_choice": "web menus thing", "assigned": "web hues menus",
+        "rivals": "web hues pair", "choice": "web menus", "choice_tree": "web menus",
+        "is_choice_tree": "web menus thing",
+    },
+}
+# The methods of Office, with their parameters.
+METHODS = {
+    "come": "label plan", "leave": "label", "change": "label plan", "put": "label pair", "take_off": "labels",
+    "grow": "order", "grow_wide": "order", "settle": "", "rename": "persons desks", "undo": "", "redo": "", "log": "",
+    "copy": "", "labels": "", "unused_labels": "", "plan": "label", "held": "", "book": "", "pick": "", "seated": "",
+    "openings": "", "would": "order", "stays": "person", "taken": "",
 }
 
 
@@ -83,6 +125,14 @@ class Interface(unittest.TestCase):
                 for parameter in inspect.signature(found).parameters.values():
                     self.assertEqual(parameter.kind, parameter.POSITIONAL_OR_KEYWORD)
                     self.assertIs(parameter.default, parameter.empty)
+
+    def test_methods(self):
+        office = importlib.import_module("pairpicks.office").Office
+        for name, parameters in METHODS.items():
+            self.assertIn(name, vars(office))
+            found = inspect.signature(vars(office)[name]).parameters
+            self.assertEqual(" ".join(found), ("self " + parameters).strip(), name)
+        self.assertLessEqual({"__init__", "__eq__", "__len__"}, set(vars(office)))
 
     def test_init_defines_nothing(self):
         self.assertEqual(ast.parse((ROOT / "__init__.py").read_text()).body, [])

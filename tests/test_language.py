@@ -11,12 +11,15 @@ FILES = sorted(ROOT.glob("*.py"))
 
 NODES = """Module ImportFrom alias ClassDef FunctionDef arguments arg Expr Constant Name Load Store Assign AugAssign
 Attribute Subscript Slice Call keyword Tuple List Dict ListComp DictComp SetComp comprehension If IfExp For While Break
-Continue Pass Return Raise Compare Eq NotEq Lt LtE Gt GtE In NotIn Is IsNot BoolOp And Or UnaryOp Not USub BinOp Add Sub
+Continue Pass Return Raise Try ExceptHandler JoinedStr FormattedValue Compare Eq NotEq Lt LtE Gt GtE In NotIn Is IsNot
+BoolOp And Or UnaryOp Not USub BinOp Add Sub
 Mult FloorDiv Mod BitAnd BitOr LShift RShift""".split()
 BUILTINS = """len range enumerate zip min max sum abs sorted reversed int str bool list tuple dict set isinstance any
 all divmod ValueError""".split()
-METHODS = """append clear copy count extend find get index insert items keys pop remove setdefault update values
-__init__""".split()
+METHODS = """append clear copy count extend find get index insert items join keys pop remove setdefault split update
+values __init__""".split()
+# What is caught is an own error.
+CAUGHT = ["PickError"]
 LIBRARY = {"itertools": ["combinations", "permutations", "product"], "math": ["comb", "factorial", "perm", "gcd"]}
 # What gives no list stands only where it is iterated at once.
 LAZY = ["range", "zip", "enumerate", "reversed", "combinations", "permutations", "product"]
@@ -89,7 +92,12 @@ class Code(unittest.TestCase):
                     self.assertTrue(all(isinstance(each, (ast.Expr, ast.ImportFrom)) for each in tree.body[:at]), name)
                     bound += [each.name for each in node.names]
                 elif isinstance(node, ast.Assign):
-                    self.assertIsInstance(ast.literal_eval(node.value), (int, str, tuple))
+                    if isinstance(node.value, ast.Dict):
+                        # A table of functions that stand above it.
+                        self.assertLessEqual({each.id for each in node.value.values}, set(bound), name)
+                        self.assertIs(all([isinstance(key, ast.Constant) for key in node.value.keys]), True)
+                    else:
+                        self.assertIsInstance(ast.literal_eval(node.value), (int, str, tuple))
                     bound.append(node.targets[0].id)
                 else:
                     self.assertIsInstance(node, (ast.FunctionDef, ast.ClassDef), name)
@@ -114,6 +122,8 @@ class Code(unittest.TestCase):
                 self.assertFalse(any(each.startswith("__") for each in local))
 
     def test_builtins_and_methods(self):
+        own = [each.name for _, tree in trees() for node in ast.walk(tree) if isinstance(node, ast.ClassDef)
+               for each in node.body if isinstance(each, ast.FunctionDef)]
         for name, tree in trees():
             bound = {node.id for node in ast.walk(tree) if isinstance(node, ast.Name)
                      and isinstance(node.ctx, ast.Store)}
@@ -126,7 +136,7 @@ class Code(unittest.TestCase):
                 if isinstance(node, ast.Name) and isinstance(node.ctx, ast.Load):
                     self.assertNotEqual(node.id, "_", f"{name}:{node.lineno}")
                 if isinstance(node, ast.Call) and isinstance(node.func, ast.Attribute):
-                    self.assertIn(node.func.attr, METHODS, f"{name}:{node.lineno}")
+                    self.assertIn(node.func.attr, METHODS + own, f"{name}:{node.lineno}")
                 if isinstance(node, ast.ImportFrom) and node.module in LIBRARY:
                     self.assertLessEqual({each.name for each in node.names}, set(LIBRARY[node.module]))
                 if isinstance(node, ast.alias):
@@ -149,6 +159,35 @@ class Code(unittest.TestCase):
                 if made or isinstance(node, (ast.SetComp, ast.Set)):
                     self.assertIsInstance(node.above, ast.Call, f"{name}:{node.lineno}")
                     self.assertIn(node.above.func.id, ("len", "sorted"), f"{name}:{node.lineno}")
+
+    def test_methods_and_attributes(self):
+        for name, tree in trees():
+            stored = {node.attr for node in ast.walk(tree) if isinstance(node, ast.Attribute)
+                      and isinstance(node.ctx, ast.Store)}
+            called = {id(node.func) for node in ast.walk(tree) if isinstance(node, ast.Call)}
+            read = {node.attr for node in ast.walk(tree) if isinstance(node, ast.Attribute) and id(node) not in called}
+            methods = {each.name for node in ast.walk(tree) if isinstance(node, ast.ClassDef) for each in node.body
+                       if isinstance(each, ast.FunctionDef)}
+            self.assertEqual(stored & methods, set(), name)
+            self.assertLessEqual(read, stored, name)
+
+    def test_double_underscore_methods(self):
+        for name, tree in trees():
+            for node in ast.walk(tree):
+                if isinstance(node, ast.FunctionDef) and node.name.startswith("__"):
+                    self.assertIsInstance(node.above, ast.ClassDef)
+                    self.assertIn(node.name, ("__init__", "__len__", "__eq__"))
+                    if node.name != "__init__":
+                        self.assertIsInstance(node.body[-1], ast.Return)
+                    if node.name == "__len__":
+                        self.assertEqual(node.body[-1].value.func.id, "len")
+
+    def test_what_is_caught(self):
+        for name, tree in trees():
+            for node in ast.walk(tree):
+                if isinstance(node, ast.ExceptHandler):
+                    self.assertIn(node.type.id, CAUGHT, f"{name}:{node.lineno}")
+                    self.assertIsNone(node.name)
 
     def test_is_and_raise(self):
         for name, tree in trees():
